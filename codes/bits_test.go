@@ -7,6 +7,7 @@ import (
 	"testing"
 
 	"versal/codes"
+	"versal/sample"
 )
 
 // 7.1: a byte's lowest bit comes first, and the first byte ahead of the next.
@@ -39,7 +40,7 @@ func TestSeveral(t *testing.T) {
 
 // 7.1: each n from 0 to 24, at each place within a byte, of bytes of all kinds.
 func TestEachNumber(t *testing.T) {
-	for _, b := range [][]byte{mixed(6, 1), mixed(6, 2), mixed(6, 3), bytes.Repeat([]byte{255}, 6), make([]byte, 6), {1, 2, 4, 8, 16, 32}} {
+	for _, b := range [][]byte{sample.Bytes(6, 1), sample.Bytes(6, 2), sample.Bytes(6, 3), bytes.Repeat([]byte{255}, 6), make([]byte, 6), {1, 2, 4, 8, 16, 32}} {
 		all := spelt(b)
 		for at := range 17 {
 			for n := range 25 {
@@ -92,7 +93,7 @@ func TestBroughtWithin(t *testing.T) {
 // 7.1: just as many bits as are left come; of one more, none is taken.
 func TestJustEnough(t *testing.T) {
 	for size := range 4 {
-		b := mixed(size, 5+size)
+		b := sample.Bytes(size, 5+size)
 		all := spelt(b)
 		for at := range len(all) + 1 {
 			left := len(all) - at
@@ -165,7 +166,7 @@ func TestAlignLeavesOrNot(t *testing.T) {
 
 // 7.1: Used asks alone: it takes nothing, however often.
 func TestUsedTakesNothing(t *testing.T) {
-	b := mixed(4, 9)
+	b := sample.Bytes(4, 9)
 	all := spelt(b)
 	r := codes.NewBits(b)
 	holdUsed(t, r, 0)
@@ -195,8 +196,8 @@ func TestNoBytes(t *testing.T) {
 // 7.1: Takes and Aligns in any order, held against a text of the bits.
 func TestInAnyOrder(t *testing.T) {
 	for seed := range 300 {
-		pick := source(seed)
-		b := mixed(pick(90), seed)
+		pick := sample.Source(seed)
+		b := sample.Bytes(pick(90), seed)
 		all, at := spelt(b), 0
 		r := codes.NewBits(b)
 		for range 120 {
@@ -221,7 +222,7 @@ func TestInAnyOrder(t *testing.T) {
 
 // 7.1: many bytes.
 func TestManyBytes(t *testing.T) {
-	b := mixed(3<<18, 21)
+	b := sample.Bytes(3<<18, 21)
 	r := codes.NewBits(b)
 	for k := 0; k < len(b); k += 3 {
 		want := int(b[k]) | int(b[k+1])<<8 | int(b[k+2])<<16
@@ -235,7 +236,7 @@ func TestManyBytes(t *testing.T) {
 // R2: what is handed in is as it was behind each call, its spare room and what
 // lies ahead of it included.
 func TestBytesUnchanged(t *testing.T) {
-	room := mixed(40, 13)
+	room := sample.Bytes(40, 13)
 	was := slices.Clone(room)
 	hold := func(call string) {
 		if !bytes.Equal(room, was) {
@@ -281,7 +282,7 @@ func TestBytesNotKept(t *testing.T) {
 
 // R7: two of the same bytes know nothing of one another.
 func TestApart(t *testing.T) {
-	b := mixed(9, 17)
+	b := sample.Bytes(9, 17)
 	all := spelt(b)
 	one, other := codes.NewBits(b), codes.NewBits(b)
 	for k := range 24 {

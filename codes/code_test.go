@@ -8,6 +8,7 @@ import (
 
 	"versal/api"
 	"versal/codes"
+	"versal/sample"
 )
 
 // holdOf holds each symbol's code against its text, and that beyond them there
@@ -77,7 +78,7 @@ func holdAll(t *testing.T, lengths []int, seed int) {
 		return
 	}
 	holdText(t, c, symbols, 0)
-	pick := source(seed)
+	pick := sample.Source(seed)
 	text := make([]int, 200)
 	for k := range text {
 		text[k] = symbols[pick(len(symbols))]
@@ -181,7 +182,7 @@ func TestEachLength(t *testing.T) {
 // 7.2: whole codes of all sizes, with symbols among them that have none.
 func TestManyCodes(t *testing.T) {
 	for seed := range 400 {
-		pick := source(seed)
+		pick := sample.Source(seed)
 		count := 2 + pick(60)
 		if seed%10 == 0 {
 			count = 2 + pick(319)
@@ -190,7 +191,7 @@ func TestManyCodes(t *testing.T) {
 		lengths = sparse(lengths, min(pick(40), 320-len(lengths)), pick)
 		holdAll(t, lengths, seed)
 	}
-	pick := source(1000)
+	pick := sample.Source(1000)
 	holdAll(t, split(320, pick), 1)
 }
 
@@ -286,7 +287,7 @@ func TestWrongLengths(t *testing.T) {
 
 // 7.2: 320 symbols may be, and 321 not, with codes and without.
 func TestHowMany(t *testing.T) {
-	pick := source(77)
+	pick := sample.Source(77)
 	for _, lengths := range [][]int{nil, {1}, {1, 1}, {2, 1, 3, 3}, rising(), fixed(), split(320, pick)} {
 		whole := slices.Concat(lengths, make([]int, 320-len(lengths)))
 		made(t, whole)
@@ -303,7 +304,7 @@ func TestHowMany(t *testing.T) {
 // 7.2: of a whole code, one more is too many, one less is too few, and so is
 // one that is longer; one that is shorter is too many again.
 func TestTooManyTooFew(t *testing.T) {
-	pick := source(5)
+	pick := sample.Source(5)
 	for _, lengths := range [][]int{{1, 1}, {2, 1, 3, 3}, {3, 3, 3, 3, 3, 2, 4, 4}, rising(), fixed(), slices.Repeat([]int{5}, 32), split(100, pick), split(319, pick)} {
 		made(t, lengths)
 		for n := 1; n <= 15; n++ {
@@ -364,7 +365,7 @@ func each(ahead []int, most, low, high int, f func([]int)) {
 func TestNearCodes(t *testing.T) {
 	may := 0
 	for seed := range 4000 {
-		pick := source(seed)
+		pick := sample.Source(seed)
 		lengths := split(2+pick(20), pick)
 		for range pick(3) {
 			lengths[pick(len(lengths))] += pick(3) - 1
@@ -388,8 +389,8 @@ func TestReadAmongTakes(t *testing.T) {
 	c := made(t, lengths)
 	words := texts(lengths)
 	for seed := range 300 {
-		pick := source(seed)
-		b := mixed(60, seed)
+		pick := sample.Source(seed)
+		b := sample.Bytes(60, seed)
 		all, at := spelt(b), 0
 		r := codes.NewBits(b)
 		for at+24 <= len(all) {
@@ -438,7 +439,7 @@ func TestLengthsUnchanged(t *testing.T) {
 		if !slices.Equal(room, was) {
 			t.Fatalf("R2: New changed %v", lengths)
 		}
-		r := codes.NewBits(mixed(40, 1))
+		r := codes.NewBits(sample.Bytes(40, 1))
 		for k := range len(lengths) + 1 {
 			c.Of(k)
 			c.Read(r)
@@ -469,11 +470,11 @@ func TestLengthsNotKept(t *testing.T) {
 // R4: what a code answers hangs on its lengths alone: made again it is the
 // same, and reading leaves it as it is.
 func TestSameAgain(t *testing.T) {
-	lengths := split(50, source(3))
+	lengths := split(50, sample.Source(3))
 	words := texts(lengths)
 	c := made(t, lengths)
 	for k := range 20 {
-		b := mixed(100, k)
+		b := sample.Bytes(100, k)
 		one, other := codes.NewBits(b), codes.NewBits(b)
 		again := made(t, slices.Clone(lengths))
 		for range 60 {

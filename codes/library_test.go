@@ -6,6 +6,7 @@ import (
 	"testing"
 
 	"versal/codes"
+	"versal/sample"
 )
 
 // literals answers the text of a deflated block of literals alone, from its
@@ -97,7 +98,7 @@ func TestFixedBytes(t *testing.T) {
 func TestLibraryBlocks(t *testing.T) {
 	read := 0
 	for seed := range 60 {
-		pick := source(seed)
+		pick := sample.Source(seed)
 		spread := 2 + pick(254)
 		text := make([]byte, 1000+pick(3000))
 		for k := range text {

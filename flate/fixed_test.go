@@ -6,6 +6,7 @@ import (
 	"testing"
 
 	"versal/api"
+	"versal/sample"
 )
 
 // lengthRows and distanceRows are RFC 1951's tables (3.2.5): of each symbol
@@ -74,7 +75,7 @@ func TestFixedLiterals(t *testing.T) {
 
 // 8.1: copies of each length, of one byte and of more, from near and from far.
 func TestEachLength(t *testing.T) {
-	text := string(mixed(400, 3))
+	text := string(sample.Bytes(400, 3))
 	for length := 3; length <= 258; length++ {
 		what := "length " + strconv.Itoa(length)
 		fine(t, what, begin(1, 1).fixed('a').copied(length, 1).fixed(256), strings.Repeat("a", length+1))
@@ -90,7 +91,7 @@ func TestEachLength(t *testing.T) {
 
 // 8.1: copies of each distance, over a block's border, in one stream.
 func TestEachDistance(t *testing.T) {
-	text := mixed(32768, 8)
+	text := sample.Bytes(32768, 8)
 	w := new(writer).stored(0, text).head(1, 1)
 	for distance := 1; distance <= 32768; distance++ {
 		w.copied(3, distance)
@@ -105,7 +106,7 @@ func TestEachDistance(t *testing.T) {
 func TestDistanceBeyond(t *testing.T) {
 	wrong(t, "of nothing", begin(1, 1).copied(3, 1), api.ErrForm)
 	for _, n := range []int{1, 2, 3, 4, 5, 6, 7, 8, 9, 12, 13, 16, 17, 64, 65, 255, 256, 257, 1024, 4097, 24576, 24577, 32766, 32767} {
-		text := string(mixed(n, n))
+		text := string(sample.Bytes(n, n))
 		what := "distance " + strconv.Itoa(n)
 		fine(t, what, new(writer).stored(0, []byte(text)).head(1, 1).copied(5, n).fixed(256), copyOf(text, 5, n))
 		w := new(writer).stored(0, []byte(text)).head(1, 1).copied(5, n+1)
@@ -113,8 +114,8 @@ func TestDistanceBeyond(t *testing.T) {
 		// The distance comes first, and then the bytes that are too many.
 		hold(t, what+" and one more, most", w.bytes(), n, "", 0, api.ErrForm)
 	}
-	w := new(writer).stored(0, mixed(32767, 1)).stored(0, []byte("x")).head(1, 1).copied(258, 32768).fixed(256)
-	fine(t, "the farthest", w, copyOf(string(mixed(32767, 1))+"x", 258, 32768))
+	w := new(writer).stored(0, sample.Bytes(32767, 1)).stored(0, []byte("x")).head(1, 1).copied(258, 32768).fixed(256)
+	fine(t, "the farthest", w, copyOf(string(sample.Bytes(32767, 1))+"x", 258, 32768))
 	// What was copied counts as there.
 	fine(t, "of a copy", begin(1, 1).fixed('p', 'q').copied(3, 2).copied(4, 5).fixed(256), copyOf(copyOf("pq", 3, 2), 4, 5))
 	wrong(t, "beyond a copy", begin(1, 1).fixed('p', 'q').copied(3, 2).copied(4, 6), api.ErrForm)
@@ -145,7 +146,7 @@ func TestFixedNothing(t *testing.T) {
 		}
 	}
 	fine(t, "symbol 285", begin(1, 1).fixed('a', 285).far(0, 0, 0).fixed(256), strings.Repeat("a", 259))
-	text := string(mixed(32000, 2))
+	text := string(sample.Bytes(32000, 2))
 	fine(t, "distance symbol 29", new(writer).stored(0, []byte(text)).head(1, 1).fixed(257).far(29, 5, 13).fixed(256), copyOf(text, 3, 24582))
 }
 

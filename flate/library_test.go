@@ -9,6 +9,7 @@ import (
 	"testing"
 
 	"versal/api"
+	"versal/sample"
 )
 
 // library answers what the standard library inflates.
@@ -46,7 +47,7 @@ func deflated(t *testing.T, level int, pieces ...[]byte) []byte {
 
 // samples answers texts of many kinds.
 func samples() [][]byte {
-	pick := source(77)
+	pick := sample.Source(77)
 	var few, phrases []byte
 	for range 9000 {
 		few = append(few, byte('a'+min(pick(26), pick(26), pick(26))))
@@ -59,10 +60,10 @@ func samples() [][]byte {
 	for k := range ramp {
 		ramp[k] = byte(k / 7)
 	}
-	far := mixed(33000, 6)
+	far := sample.Bytes(33000, 6)
 	return [][]byte{
 		nil, []byte("a"), []byte("abc"), []byte(strings.Repeat("a", 1000)), make([]byte, 100000),
-		few, phrases, ramp, mixed(70000, 4), append(far, far...), []byte(strings.Repeat("abcdefgh", 9000)),
+		few, phrases, ramp, sample.Bytes(70000, 4), append(far, far...), []byte(strings.Repeat("abcdefgh", 9000)),
 	}
 }
 

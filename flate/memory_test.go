@@ -8,13 +8,14 @@ import (
 
 	"versal/api"
 	"versal/flate"
+	"versal/sample"
 )
 
 // R2: what is handed in is as it was, its spare room and what lies ahead of it
 // included, whatever the answer.
 func TestUnchanged(t *testing.T) {
 	check := func(what string, b []byte, call func(b []byte)) {
-		room := slices.Concat(mixed(9, 1), b, mixed(70, 2))
+		room := slices.Concat(sample.Bytes(9, 1), b, sample.Bytes(70, 2))
 		was := slices.Clone(room)
 		call(room[9 : 9+len(b)])
 		if !bytes.Equal(room, was) {
@@ -35,7 +36,7 @@ func TestUnchanged(t *testing.T) {
 		}
 		check("Stored", b, func(b []byte) { flate.Stored(b) })
 	}
-	check("Stored", mixed(70000, 3), func(b []byte) { flate.Stored(b) })
+	check("Stored", sample.Bytes(70000, 3), func(b []byte) { flate.Stored(b) })
 	check("Stored", nil, func(b []byte) { flate.Stored(b) })
 }
 
@@ -65,7 +66,7 @@ func TestNewMemory(t *testing.T) {
 		}
 	}
 	for _, n := range []int{0, 1, 100, 65535, 65536, 140000} {
-		text := mixed(n, n)
+		text := sample.Bytes(n, n)
 		was := slices.Clone(text)
 		one, other := flate.Stored(text), flate.Stored(text)
 		keep := slices.Clone(other)

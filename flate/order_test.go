@@ -5,6 +5,7 @@ import (
 	"testing"
 
 	"versal/api"
+	"versal/sample"
 )
 
 // 8.1: the bits end at each place of a stream of each kind.
@@ -15,7 +16,7 @@ func TestCutOff(t *testing.T) {
 		"fixed": func(w *writer) {
 			w.head(1, 1).fixed('a', 'b', 255).copied(13, 3).copied(258, 2).copied(257, 5).fixed(256)
 		},
-		"far":       func(w *writer) { w.stored(0, mixed(300, 1)).head(1, 1).copied(100, 299).fixed(256) },
+		"far":       func(w *writer) { w.stored(0, sample.Bytes(300, 1)).head(1, 1).copied(100, 299).fixed(256) },
 		"own":       func(w *writer) { w.block(1, abc(), []int{1}).word("10" + "11" + "0") },
 		"copies":    func(w *writer) { w.block(1, copies(), even(7)).word("00" + "111" + "00" + "110" + "00" + "01") },
 		"256 alone": func(w *writer) { w.block(1, at(257, map[int]int{256: 1}), []int{0}).word("0") },

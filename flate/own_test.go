@@ -7,6 +7,7 @@ import (
 	"testing"
 
 	"versal/api"
+	"versal/sample"
 )
 
 // shortOrder is RFC 1951's order of the lengths' codes (3.2.7).
@@ -186,7 +187,7 @@ func TestOwnSymbols(t *testing.T) {
 			distances = append(chain(1, 2, 3, 4, 5, 6, 7, 8, 9, 10, 11, 12, 13, 14, 15), make([]int, 30)...)[:30]
 		}
 		near, far := words(literals), words(distances)
-		text := string(mixed(32768, 31))
+		text := string(sample.Bytes(32768, 31))
 		w := new(writer).stored(0, []byte(text)).block(1, literals, distances)
 		for x := range 256 {
 			if near[x] != "" {

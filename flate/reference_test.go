@@ -8,6 +8,7 @@ import (
 
 	"versal/api"
 	"versal/flate"
+	"versal/sample"
 )
 
 // refusal is what the reference stops with.
@@ -339,7 +340,7 @@ func (a *author) coded(near, far []string) {
 func (a *author) block(last int) {
 	switch kind := a.pick(4); kind {
 	case 0:
-		b := mixed(a.pick(30), a.pick(1000))
+		b := sample.Bytes(a.pick(30), a.pick(1000))
 		a.stored(last, b)
 		a.said = append(a.said, b...)
 	case 1:
@@ -366,7 +367,7 @@ func (a *author) block(last int) {
 
 // written answers a stream of some blocks.
 func written(seed int) ([]byte, []byte) {
-	a := &author{pick: source(seed)}
+	a := &author{pick: sample.Source(seed)}
 	for range a.pick(4) {
 		a.block(0)
 	}
@@ -401,7 +402,7 @@ func TestWrittenCutOff(t *testing.T) {
 func TestWrittenTurned(t *testing.T) {
 	seen := make(map[api.Errno]int)
 	for seed := range 9000 {
-		pick := source(seed + 5000)
+		pick := sample.Source(seed + 5000)
 		b, said := written(seed % 900)
 		for range pick(4) {
 			b[pick(len(b))] ^= 1 << pick(8)
@@ -435,7 +436,7 @@ func TestAnyBytes(t *testing.T) {
 		}
 	}
 	for seed := range 4000 {
-		b := mixed(source(seed)(90), seed)
+		b := sample.Bytes(sample.Source(seed)(90), seed)
 		if len(b) > 0 {
 			b[0] = b[0]&^7 | byte(2+seed%4)
 		}

@@ -9,6 +9,7 @@ import (
 
 	"versal/api"
 	"versal/flate"
+	"versal/sample"
 )
 
 // 8.1: blocks of kind 0, alone and several.
@@ -18,7 +19,7 @@ func TestStoredBlocks(t *testing.T) {
 	fine(t, "three of none", new(writer).stored(0, nil).stored(0, nil).stored(1, nil), "")
 	fine(t, "three", new(writer).stored(0, []byte("ab")).stored(0, nil).stored(1, []byte("c")), "abc")
 	for _, n := range []int{255, 256, 257, 4096, 65534, 65535} {
-		b := mixed(n, n)
+		b := sample.Bytes(n, n)
 		fine(t, strconv.Itoa(n)+" bytes", new(writer).stored(1, b), string(b))
 	}
 	hold(t, "what is behind the last one", []byte{1, 1, 0, 0xfe, 0xff, 'a', 1, 1, 0, 0xfe, 0xff, 'b'}, 9, "a", 6, api.OK)
@@ -103,7 +104,7 @@ func TestStoredBytes(t *testing.T) {
 		t.Errorf("8.2: of two: % x", b)
 	}
 	for _, n := range []int{1, 255, 256, 258, 65534, 65535, 65536, 65537, 131069, 131070, 131071, 196605, 200000} {
-		text := mixed(n, n)
+		text := sample.Bytes(n, n)
 		var want []byte
 		for at := 0; ; at += 65535 {
 			size := n - at
@@ -124,7 +125,7 @@ func TestStoredBytes(t *testing.T) {
 // 8.2, 8.1: what was stored comes back, ours and the library's way.
 func TestStoredAgain(t *testing.T) {
 	for _, n := range []int{0, 1, 2, 1000, 65534, 65535, 65536, 65537, 131070, 131071, 300000} {
-		text := mixed(n, n+1)
+		text := sample.Bytes(n, n+1)
 		b := flate.Stored(text)
 		hold(t, strconv.Itoa(n)+" stored", b, n, string(text), len(b), api.OK)
 		hold(t, strconv.Itoa(n)+" stored, bytes behind", append(slices.Clone(b), 5, 6, 7), n, string(text), len(b), api.OK)

@@ -139,26 +139,6 @@ func words(lengths []int) []string {
 	return all
 }
 
-// source answers numbers from 0 to n - 1 that are unlike one another, the same
-// ones each time.
-func source(seed int) func(n int) int {
-	state := uint64(seed)*2654435761 + 1
-	return func(n int) int {
-		state = state*6364136223846793005 + 1442695040888963407
-		return int(state >> 33 % uint64(n))
-	}
-}
-
-// mixed answers n bytes that are unlike one another.
-func mixed(n, seed int) []byte {
-	b := make([]byte, n)
-	pick := source(seed)
-	for k := range b {
-		b[k] = byte(pick(256))
-	}
-	return b
-}
-
 // hold inflates b and holds all three results; beside an error the others are
 // their zero values (R3).
 func hold(t *testing.T, what string, b []byte, most int, want string, used int, code api.Errno) {

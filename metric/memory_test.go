@@ -8,13 +8,14 @@ import (
 
 	"versal/api"
 	"versal/metric"
+	"versal/sample"
 	"versal/sfnt"
 )
 
 // sane answers a font's tables, all that both calls ask.
 func sane(m metric.Metric) tables {
 	format := wide(m)/2 - 1
-	return tables{"head": head(54, m.Units, format), "maxp": maxp(6, m.Glyphs), "loca": entries(m, 0, 4, 4, 10), "glyf": mixed(10, 1)}
+	return tables{"head": head(54, m.Units, format), "maxp": maxp(6, m.Glyphs), "loca": entries(m, 0, 4, 4, 10), "glyf": sample.Bytes(10, 1)}
 }
 
 // askAll calls Read and Range of all glyphs and of some that are none.
@@ -30,8 +31,8 @@ func askAll(f *sfnt.Font, m metric.Metric) {
 func TestChangesNothing(t *testing.T) {
 	for _, m := range kinds(3) {
 		for _, l := range []tables{nil, sane(m), sane(m).without("maxp"), sane(m).with("loca", nil), sane(m).with("glyf", nil), sane(m).with("head", head(54, 0, 9))} {
-			b := file(t, l)
-			whole := slices.Concat(mixed(9, 1), b, mixed(90, 2))
+			b := sample.File(l)
+			whole := slices.Concat(sample.Bytes(9, 1), b, sample.Bytes(90, 2))
 			before := bytes.Clone(whole)
 			f, e := sfnt.Open(whole[9 : 9+len(b)])
 			if e != api.OK {

@@ -8,6 +8,7 @@ import (
 
 	"versal/api"
 	"versal/metric"
+	"versal/sample"
 )
 
 // kinds are a Metric of short entries and one of long ones.
@@ -33,7 +34,7 @@ func wide(m metric.Metric) int {
 func TestRange(t *testing.T) {
 	all := []int{0, 0, 6, 6, 6, 20, 22, 30, 30, 30}
 	for _, m := range kinds(len(all) - 1) {
-		f := font(t, tables{"loca": entries(m, all...), "glyf": mixed(30, 1)})
+		f := font(t, tables{"loca": entries(m, all...), "glyf": sample.Bytes(30, 1)})
 		for k := range m.Glyphs {
 			holdRange(t, "a glyph", f, m, k, place{from: all[k], to: all[k+1]})
 		}
@@ -236,7 +237,7 @@ func TestPairs(t *testing.T) {
 					if from > to || to > size {
 						want = place{e: api.ErrForm}
 					}
-					l := tables{"loca": entries(m, from, to), "glyf": mixed(size, 1)}
+					l := tables{"loca": entries(m, from, to), "glyf": sample.Bytes(size, 1)}
 					holdRange(t, strconv.Itoa(size)+" bytes of glyf", font(t, l), m, 0, want)
 				}
 			}

@@ -7,6 +7,7 @@ import (
 
 	"versal/api"
 	"versal/metric"
+	"versal/sample"
 )
 
 // fine answers the two tables that Read asks, as they should be.
@@ -36,7 +37,7 @@ func TestRead(t *testing.T) {
 				l := tables{"head": head(54, units, format), "maxp": maxp(6, glyphs)}
 				holdRead(t, "both tables", l, want, api.OK)
 				holdRead(t, "longer ones", tables{"head": head(60, units, format), "maxp": maxp(32, glyphs)}, want, api.OK)
-				holdRead(t, "beside others", l.with("loca", mixed(9, 1)).with("glyf", nil).with("hea ", mixed(60, 2)), want, api.OK)
+				holdRead(t, "beside others", l.with("loca", sample.Bytes(9, 1)).with("glyf", nil).with("hea ", sample.Bytes(60, 2)), want, api.OK)
 			}
 		}
 	}

@@ -5,33 +5,13 @@ import (
 	"encoding/binary"
 	"maps"
 	"math/big"
-	"slices"
 	"testing"
 
 	"versal/api"
 	"versal/metric"
+	"versal/sample"
 	"versal/sfnt"
 )
-
-// source answers numbers from 0 to n - 1 that are unlike one another, the same
-// ones each time.
-func source(seed int) func(n int) int {
-	state := uint64(seed)*2654435761 + 1
-	return func(n int) int {
-		state = state*6364136223846793005 + 1442695040888963407
-		return int(state >> 33 % uint64(n))
-	}
-}
-
-// mixed answers n bytes that are unlike one another.
-func mixed(n, seed int) []byte {
-	b := make([]byte, n)
-	pick := source(seed)
-	for k := range b {
-		b[k] = byte(pick(256))
-	}
-	return b
-}
 
 // tables are a font's, by their tags.
 type tables map[string][]byte
@@ -52,27 +32,12 @@ func (l tables) without(tags ...string) tables {
 	return l
 }
 
-// file answers the bytes of a font of these tables.
-func file(t *testing.T, l tables) []byte {
-	t.Helper()
-	tags := slices.Sorted(maps.Keys(l))
-	var bodies [][]byte
-	for _, tag := range tags {
-		bodies = append(bodies, l[tag])
-	}
-	b, e := sfnt.Lay(tags, bodies)
-	if e != api.OK {
-		t.Fatalf("14.2: error %d", e)
-	}
-	return b
-}
-
 // font answers a font of these tables.
 func font(t *testing.T, l tables) *sfnt.Font {
 	t.Helper()
-	f, e := sfnt.Open(file(t, l))
-	if e != api.OK {
-		t.Fatalf("14.1: error %d", e)
+	f := sample.Font(l)
+	if f == nil {
+		t.Fatal("no font of these tables")
 	}
 	return f
 }
@@ -80,7 +45,7 @@ func font(t *testing.T, l tables) *sfnt.Font {
 // head answers so many bytes of a table head that tells these two numbers; the
 // others mean nothing.
 func head(size, units, format int) []byte {
-	b := mixed(max(size, 54), size)
+	b := sample.Bytes(max(size, 54), size)
 	binary.BigEndian.PutUint16(b[18:], uint16(units))
 	binary.BigEndian.PutUint16(b[50:], uint16(format))
 	return b[:size]
@@ -88,7 +53,7 @@ func head(size, units, format int) []byte {
 
 // maxp answers so many bytes of a table maxp that tells this number.
 func maxp(size, glyphs int) []byte {
-	b := mixed(max(size, 6), size)
+	b := sample.Bytes(max(size, 6), size)
 	binary.BigEndian.PutUint16(b[4:], uint16(glyphs))
 	return b[:size]
 }

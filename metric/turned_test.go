@@ -7,12 +7,13 @@ import (
 
 	"versal/api"
 	"versal/metric"
+	"versal/sample"
 )
 
 // some answers a font's tables, most of them as they should be, and a Metric
 // that is most often theirs.
 func some(seed int) (tables, metric.Metric) {
-	pick := source(seed)
+	pick := sample.Source(seed)
 	m := metric.Metric{Units: 16 + pick(16369), Glyphs: 1 + pick(9), Long: pick(2) == 1}
 	format := 0
 	if m.Long {
@@ -25,7 +26,7 @@ func some(seed int) (tables, metric.Metric) {
 	}
 	l := tables{
 		"head": head(54+pick(9), m.Units, format), "maxp": maxp(6+pick(9), m.Glyphs),
-		"loca": entries(m, ends...), "glyf": mixed(at+2*pick(2), seed),
+		"loca": entries(m, ends...), "glyf": sample.Bytes(at+2*pick(2), seed),
 	}
 	return l, m
 }
@@ -40,7 +41,7 @@ func turn(l tables, pick func(n int) int) tables {
 	case 1:
 		return l.with(tag, b[:pick(len(b)+1)])
 	case 2:
-		return l.with(tag, append(b, mixed(pick(9), pick(99))...))
+		return l.with(tag, append(b, sample.Bytes(pick(9), pick(99))...))
 	}
 	if len(b) > 0 {
 		at := pick(len(b))
@@ -58,7 +59,7 @@ func TestTurned(t *testing.T) {
 	reads, ranges := make(map[api.Errno]int), make(map[api.Errno]int)
 	for seed := range 20000 {
 		l, m := some(seed)
-		pick := source(seed + 1<<20)
+		pick := sample.Source(seed + 1<<20)
 		for range pick(3) {
 			l = turn(l, pick)
 		}
@@ -86,11 +87,11 @@ func TestTurned(t *testing.T) {
 func TestAnyBytes(t *testing.T) {
 	numbers := []int{math.MinInt, -1, 0, 1, 2, 5, 9, 30, 1 << 31, 1 << 61, 1 << 62, math.MaxInt}
 	for seed := range 3000 {
-		pick := source(seed)
+		pick := sample.Source(seed)
 		l := make(tables)
 		for _, tag := range []string{"head", "maxp", "loca", "glyf"} {
 			if pick(6) > 0 {
-				l[tag] = mixed(pick(70), pick(1<<30))
+				l[tag] = sample.Bytes(pick(70), pick(1<<30))
 			}
 		}
 		want, e := expectedRead(l)

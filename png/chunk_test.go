@@ -7,6 +7,7 @@ import (
 	"testing"
 
 	"versal/api"
+	"versal/sample"
 )
 
 // gray1 answers a gray pixel's chunks, and what they show.
@@ -21,7 +22,7 @@ func TestFewerThanEight(t *testing.T) {
 		fails(t, "the signature's first", []byte(signature)[:n], api.ErrShort)
 		fails(t, "in the spare room", []byte(signature + "rest")[:n], api.ErrShort)
 		fails(t, "zeros", make([]byte, n), api.ErrShort)
-		fails(t, "others", mixed(n, n), api.ErrShort)
+		fails(t, "others", sample.Bytes(n, n), api.ErrShort)
 	}
 }
 
@@ -46,11 +47,11 @@ func TestOtherSignature(t *testing.T) {
 
 // 11.2: a file cut at each of its bytes.
 func TestCut(t *testing.T) {
-	palette := chunk("PLTE", mixed(12, 1)...)
+	palette := chunk("PLTE", sample.Bytes(12, 1)...)
 	p := painted(form{3, 2}, size{5, 3}, 3, 0)
 	stream := packed(p.lines(true, 5, "0"))
 	b := file(ihdr(5, 3, 2, 3, 1), chunk("gAMA", 0, 0, 1, 1), palette, chunk("tRNS", 1, 2),
-		chunk("IDAT", stream[:5]...), chunk("IDAT"), chunk("IDAT", stream[5:]...), chunk("tEXt", mixed(9, 1)...), iend())
+		chunk("IDAT", stream[:5]...), chunk("IDAT"), chunk("IDAT", stream[5:]...), chunk("tEXt", sample.Bytes(9, 1)...), iend())
 	both(t, "whole", b)
 	for n := range b {
 		fails(t, "cut at "+strconv.Itoa(n), b[:n], api.ErrShort)
@@ -77,7 +78,7 @@ func TestGreatLengths(t *testing.T) {
 				for n := range 8 {
 					fails(t, what+", cut at "+strconv.Itoa(n), append(slices.Clone(before), ahead[:n]...), api.ErrShort)
 				}
-				fails(t, what+", little behind", append(append(slices.Clone(before), ahead...), mixed(12, 3)...), c.code)
+				fails(t, what+", little behind", append(append(slices.Clone(before), ahead...), sample.Bytes(12, 3)...), c.code)
 			}
 		}
 	}
@@ -158,7 +159,7 @@ func TestNames(t *testing.T) {
 func TestBehindTheEnd(t *testing.T) {
 	head, data, want := gray1()
 	is(t, "nothing behind", file(head, data, iend()), want)
-	for _, rest := range [][]byte{{0}, mixed(3, 1), mixed(40, 2), iend(), data, chunk("abcd"), broken("abcd"), []byte(signature), {0x80, 0, 0, 0, 'a', 'b', 'c', 'd'}} {
+	for _, rest := range [][]byte{{0}, sample.Bytes(3, 1), sample.Bytes(40, 2), iend(), data, chunk("abcd"), broken("abcd"), []byte(signature), {0x80, 0, 0, 0, 'a', 'b', 'c', 'd'}} {
 		fails(t, "behind IEND", append(file(head, data, iend()), rest...), api.ErrForm)
 		for _, other := range [][]byte{chunk("IDAT"), idat(0), idat(0, 1, 2), idat(5, 1), chunk("IDAT", 1, 2, 3)} {
 			fails(t, "behind IEND, another stream", append(file(head, other, iend()), rest...), api.ErrForm)
@@ -172,8 +173,8 @@ func TestBehindTheEnd(t *testing.T) {
 func TestEnds(t *testing.T) {
 	head, data, _ := gray1()
 	for _, n := range []int{1, 2, 13, 300} {
-		fails(t, "not empty", file(head, data, chunk("IEND", mixed(n, n)...)), api.ErrForm)
-		fails(t, "not empty, no IDAT", file(head, chunk("IEND", mixed(n, n)...)), api.ErrForm)
+		fails(t, "not empty", file(head, data, chunk("IEND", sample.Bytes(n, n)...)), api.ErrForm)
+		fails(t, "not empty, no IDAT", file(head, chunk("IEND", sample.Bytes(n, n)...)), api.ErrForm)
 	}
 	fails(t, "no IDAT", file(head, iend()), api.ErrForm)
 	fails(t, "no IDAT, others", file(head, chunk("abcd"), chunk("tRNS", 0, 1), iend()), api.ErrForm)

@@ -6,6 +6,7 @@ import (
 	"testing"
 
 	"versal/api"
+	"versal/sample"
 	"versal/zlib"
 )
 
@@ -67,7 +68,7 @@ func TestHowManyBytes(t *testing.T) {
 		}
 	}
 	tall := painted(form{0, 8}, size{3, 4}, 3, 0)
-	fails(t, "no filters' bytes", tall.file(false, mixed(12, 1)), api.ErrForm)
+	fails(t, "no filters' bytes", tall.file(false, sample.Bytes(12, 1)), api.ErrForm)
 	fails(t, "laced lines in a file without", tall.file(false, tall.lines(true, 0, "0")), api.ErrBig)
 	fails(t, "lines without in a laced file", tall.file(true, tall.lines(false, 0, "0")), api.ErrForm)
 }
@@ -134,7 +135,7 @@ func TestAnyLines(t *testing.T) {
 				for _, pass := range ways(s.w, s.h, laced) {
 					for y, places := range pass {
 						lines = append(lines, byte((y+seed)%5))
-						lines = append(lines, mixed((len(places)*f.depth*channels(f.kind)+7)/8, seed*100+y)...)
+						lines = append(lines, sample.Bytes((len(places)*f.depth*channels(f.kind)+7)/8, seed*100+y)...)
 					}
 				}
 				both(t, p.named(), p.file(laced, lines, behind...))

@@ -11,13 +11,14 @@ import (
 
 	"versal/api"
 	"versal/png"
+	"versal/sample"
 	"versal/zlib"
 )
 
 // picked answers an image of these sides, its pixels unlike one another.
 func picked(w, h, seed int) api.Image {
 	i := api.Image{W: w, H: h, Pix: make([]api.Pixel, w*h)}
-	pick := source(seed)
+	pick := sample.Source(seed)
 	for k := range i.Pix {
 		i.Pix[k] = one(pick(256), pick(256), pick(256), pick(256))
 	}

@@ -7,6 +7,7 @@ import (
 
 	"versal/api"
 	"versal/png"
+	"versal/sample"
 )
 
 // spoilPixels turns each pixel of an answer and of its spare room.
@@ -21,7 +22,7 @@ func spoilPixels(i api.Image) {
 // also beside an error.
 func TestDecodeChangesNothing(t *testing.T) {
 	for k, b := range append(seeds(), nil, []byte(signature), file(broken("IHDR"))) {
-		whole := slices.Concat(mixed(9, 1), b, mixed(90, 2))
+		whole := slices.Concat(sample.Bytes(9, 1), b, sample.Bytes(90, 2))
 		before := bytes.Clone(whole)
 		for _, n := range []int{len(b), max(0, len(b)-1), len(b) / 2, len(b) + 1} {
 			png.Decode(whole[9 : 9+n])

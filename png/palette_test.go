@@ -6,6 +6,7 @@ import (
 	"testing"
 
 	"versal/api"
+	"versal/sample"
 )
 
 // 11.2: PLTE of each type, each depth and each length: none of types 0 and 4;
@@ -18,7 +19,7 @@ func TestPaletteLengths(t *testing.T) {
 			if n > 60 && n < 760 && n%19 > 3 {
 				continue
 			}
-			body := mixed(n, n)
+			body := sample.Bytes(n, n)
 			b := p.file(false, lines, chunk("PLTE", body...))
 			fine := f.kind != 0 && f.kind != 4 && n > 0 && n%3 == 0 && n <= 768
 			if f.kind == 3 && n > 3<<f.depth {
@@ -77,7 +78,7 @@ func TestIndices(t *testing.T) {
 			if entries > all || entries == 0 {
 				continue
 			}
-			palette := mixed(3*entries, entries)
+			palette := sample.Bytes(3*entries, entries)
 			plte := chunk("PLTE", palette...)
 			p := painted(form{3, depth}, size{9, 5}, entries, entries)
 			for _, laced := range []bool{false, true} {
@@ -109,10 +110,10 @@ func TestClearLengths(t *testing.T) {
 		entries := min(5, 1<<f.depth)
 		var ahead [][]byte
 		if f.kind == 2 || f.kind == 3 || f.kind == 6 {
-			ahead = append(ahead, chunk("PLTE", mixed(3*entries, 1)...))
+			ahead = append(ahead, chunk("PLTE", sample.Bytes(3*entries, 1)...))
 		}
 		for n := range 20 {
-			b := p.file(false, lines, append(slices.Clone(ahead), chunk("tRNS", mixed(n, n)...))...)
+			b := p.file(false, lines, append(slices.Clone(ahead), chunk("tRNS", sample.Bytes(n, n)...))...)
 			fine := f.kind == 0 && n == 2 || f.kind == 2 && n == 6 || f.kind == 3 && n <= entries
 			what := p.named() + ", a tRNS of " + strconv.Itoa(n)
 			if fine {
@@ -123,12 +124,12 @@ func TestClearLengths(t *testing.T) {
 				fails(t, what, b, api.ErrForm)
 			}
 		}
-		fails(t, p.named()+", a tRNS of 256", p.file(false, lines, append(ahead, chunk("tRNS", mixed(256, 1)...))...), api.ErrForm)
+		fails(t, p.named()+", a tRNS of 256", p.file(false, lines, append(ahead, chunk("tRNS", sample.Bytes(256, 1)...))...), api.ErrForm)
 	}
 	p := painted(form{3, 8}, size{16, 16}, 3, 0)
-	plte := chunk("PLTE", mixed(768, 1)...)
-	both(t, "256 alphas", p.file(false, p.lines(false, 0, "0"), plte, chunk("tRNS", mixed(256, 2)...)))
-	fails(t, "257 alphas", p.file(false, p.lines(false, 0, "0"), plte, chunk("tRNS", mixed(257, 2)...)), api.ErrForm)
+	plte := chunk("PLTE", sample.Bytes(768, 1)...)
+	both(t, "256 alphas", p.file(false, p.lines(false, 0, "0"), plte, chunk("tRNS", sample.Bytes(256, 2)...)))
+	fails(t, "257 alphas", p.file(false, p.lines(false, 0, "0"), plte, chunk("tRNS", sample.Bytes(257, 2)...)), api.ErrForm)
 }
 
 // 11.2: tRNS behind IDAT, twice, of type 3 ahead of PLTE; of type 2 it may
@@ -170,7 +171,7 @@ func TestClearOnce(t *testing.T) {
 func TestAlphas(t *testing.T) {
 	for _, depth := range []int{1, 2, 4, 8} {
 		all := 1 << depth
-		palette, alphas := mixed(3*all, 1), mixed(all, 2)
+		palette, alphas := sample.Bytes(3*all, 1), sample.Bytes(all, 2)
 		for n := range all + 1 {
 			if n > 20 && n < all-2 {
 				continue

@@ -18,26 +18,6 @@ import (
 
 const signature = "\x89PNG\r\n\x1a\n"
 
-// source answers numbers from 0 to n - 1 that are unlike one another, the same
-// ones each time.
-func source(seed int) func(n int) int {
-	state := uint64(seed)*2654435761 + 1
-	return func(n int) int {
-		state = state*6364136223846793005 + 1442695040888963407
-		return int(state >> 33 % uint64(n))
-	}
-}
-
-// mixed answers n bytes that are unlike one another.
-func mixed(n, seed int) []byte {
-	b := make([]byte, n)
-	pick := source(seed)
-	for k := range b {
-		b[k] = byte(pick(256))
-	}
-	return b
-}
-
 // chunk answers a whole chunk, its CRC by the library.
 func chunk(name string, body ...byte) []byte {
 	b := binary.BigEndian.AppendUint32(nil, uint32(len(body)))

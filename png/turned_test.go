@@ -8,6 +8,7 @@ import (
 
 	"versal/api"
 	"versal/png"
+	"versal/sample"
 )
 
 // chunks cuts a file of ours, behind its signature.
@@ -33,14 +34,14 @@ func seeds() [][]byte {
 		for _, laced := range []bool{false, true} {
 			p := painted(f, size{1 + k%7, 1 + k%5}, k, 0)
 			_, behind := p.plte()
-			behind = append(behind, chunk("tEXt", mixed(k%4, k)...))
+			behind = append(behind, chunk("tEXt", sample.Bytes(k%4, k)...))
 			lines := p.lines(laced, 5, "0")
 			out = append(out, p.file(laced, lines, behind...))
 			switch f.kind {
 			case 0:
 				behind = append(behind, chunk("tRNS", 0, byte(p.raw[0][0])))
 			case 2:
-				behind = append(behind, chunk("tRNS", mixed(6, k)...))
+				behind = append(behind, chunk("tRNS", sample.Bytes(6, k)...))
 			case 3:
 				behind = append(behind, chunk("tRNS", 1, 0))
 			}
@@ -64,7 +65,7 @@ func shuffle(all [][]byte, pick func(int) int, seed int) [][]byte {
 		all[k], all[j] = all[j], all[k]
 	case 3:
 		names := []string{"IHDR", "PLTE", "tRNS", "IDAT", "IEND", "abcd", "ABCD"}
-		return slices.Insert(all, k, chunk(names[pick(len(names))], mixed(pick(20), seed)...))
+		return slices.Insert(all, k, chunk(names[pick(len(names))], sample.Bytes(pick(20), seed)...))
 	case 4:
 		c := slices.Clone(all[k])
 		c[4+pick(len(c)-8)] ^= 1 << pick(8)
@@ -83,7 +84,7 @@ func TestTurned(t *testing.T) {
 	from := seeds()
 	told := map[api.Errno]int{}
 	for seed := range 30000 {
-		pick := source(seed)
+		pick := sample.Source(seed)
 		all := chunks(from[pick(len(from))])
 		for range pick(3) {
 			if len(all) > 0 {
@@ -97,7 +98,7 @@ func TestTurned(t *testing.T) {
 		case 1:
 			b[pick(len(b))] ^= 1 << pick(8)
 		case 2:
-			b = append(b, mixed(pick(3), seed)...)
+			b = append(b, sample.Bytes(pick(3), seed)...)
 		}
 		told[holdExpected(t, "turned", b)]++
 	}
@@ -112,7 +113,7 @@ func TestTurned(t *testing.T) {
 func TestTurnedStreams(t *testing.T) {
 	told := map[api.Errno]int{}
 	for seed := range 4000 {
-		pick := source(seed)
+		pick := sample.Source(seed)
 		p := painted(forms()[pick(15)], size{1 + pick(12), 1 + pick(12)}, seed, 0)
 		_, behind := p.plte()
 		laced := pick(2) == 1
@@ -141,7 +142,7 @@ func TestTurnedStreams(t *testing.T) {
 func TestAnyBytes(t *testing.T) {
 	head, _, _ := gray1()
 	for seed := range 3000 {
-		b := mixed(source(seed)(60), seed)
+		b := sample.Bytes(sample.Source(seed)(60), seed)
 		holdExpected(t, "any bytes", b)
 		holdExpected(t, "behind the signature", append(file(), b...))
 		holdExpected(t, "behind IHDR", append(file(head), b...))

@@ -10,6 +10,7 @@ import (
 
 	"versal/api"
 	"versal/png"
+	"versal/sample"
 )
 
 // seen answers an image of the library's, straight.
@@ -66,7 +67,7 @@ func (p picture) plte() (palette []byte, chunks [][]byte) {
 	if p.kind != 3 {
 		return nil, nil
 	}
-	palette = mixed(3<<p.depth, p.depth)
+	palette = sample.Bytes(3<<p.depth, p.depth)
 	return palette, [][]byte{chunk("PLTE", palette...)}
 }
 
@@ -164,7 +165,7 @@ func TestPassedOver(t *testing.T) {
 	for _, name := range []string{
 		"tEXt", "zTXt", "gAMA", "aaaa", "zzzz", "aAAA", "aZZZ", "iHDR", "iDAT", "iEND", "pLTE", "tRNs", "trns", "abCd", "abcD", "idat",
 	} {
-		for _, body := range [][]byte{nil, {1}, mixed(13, 1), mixed(700, 2), mixed(70000, 3)} {
+		for _, body := range [][]byte{nil, {1}, sample.Bytes(13, 1), sample.Bytes(700, 2), sample.Bytes(70000, 3)} {
 			c := chunk(name, body...)
 			plte := chunk("PLTE", 1, 2, 3)
 			is(t, name+" behind IHDR", file(head, c, data, iend()), want)

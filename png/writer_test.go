@@ -6,6 +6,7 @@ import (
 
 	"versal/api"
 	"versal/rows"
+	"versal/sample"
 )
 
 // form is a type with a depth.
@@ -36,7 +37,7 @@ func painted(f form, s size, seed, most int) picture {
 		most = 1 << f.depth
 	}
 	p := picture{form: f, size: s}
-	pick := source(seed)
+	pick := sample.Source(seed)
 	for range s.w * s.h {
 		var pixel []int
 		for range channels(f.kind) {

@@ -3,6 +3,8 @@ package rows_test
 import (
 	"slices"
 	"testing"
+
+	"versal/sample"
 )
 
 // filters calls f for each kind with each bpp.
@@ -47,7 +49,7 @@ func TestLengths(t *testing.T) {
 	filters(func(kind, bpp int) {
 		for n := range 41 {
 			for _, m := range []int{0, 1, n / 2, n - bpp, n - 1, n, n + 1, n + bpp, 3*n + 9} {
-				hold(t, kind, bpp, mixed(n, n+m), mixed(max(m, 0), m+99))
+				hold(t, kind, bpp, sample.Bytes(n, n+m), sample.Bytes(max(m, 0), m+99))
 				hold(t, kind, bpp, steep(n, n+m), steep(max(m, 0), m+77))
 			}
 		}
@@ -58,7 +60,7 @@ func TestLengths(t *testing.T) {
 func TestLongLines(t *testing.T) {
 	filters(func(kind, bpp int) {
 		for _, n := range []int{256, 256 * bpp, 256*bpp + 1, 20000} {
-			hold(t, kind, bpp, mixed(n, n), mixed(n, n+1))
+			hold(t, kind, bpp, sample.Bytes(n, n), sample.Bytes(n, n+1))
 		}
 	})
 }
@@ -67,7 +69,7 @@ func TestLongLines(t *testing.T) {
 func TestNoBytes(t *testing.T) {
 	filters(func(kind, bpp int) {
 		for _, line := range [][]byte{nil, {}} {
-			for _, above := range [][]byte{nil, {}, {1}, mixed(40, 3)} {
+			for _, above := range [][]byte{nil, {}, {1}, sample.Bytes(40, 3)} {
 				pair(t, "no bytes", kind, bpp, line, nil, above)
 			}
 		}
@@ -78,7 +80,7 @@ func TestNoBytes(t *testing.T) {
 // leaves them, average halves what is above, Paeth takes what is above.
 func TestFirstPixel(t *testing.T) {
 	for bpp := 1; bpp <= 8; bpp++ {
-		was, above := mixed(bpp, bpp), mixed(bpp, bpp+50)
+		was, above := sample.Bytes(bpp, bpp), sample.Bytes(bpp, bpp+50)
 		half, rest := make([]byte, bpp), make([]byte, bpp)
 		for k := range bpp {
 			half[k], rest[k] = was[k]-above[k]/2, was[k]-above[k]
@@ -118,9 +120,9 @@ func TestAboveIsShorter(t *testing.T) {
 	pair(t, "no above", 4, 1, was, []byte{50, 10, 10, 10}, nil)
 	filters(func(kind, bpp int) {
 		for m := range 20 {
-			above := mixed(m, m)
+			above := sample.Bytes(m, m)
 			full := append(slices.Clone(above), make([]byte, 20-m)...)
-			line := mixed(20, m+9)
+			line := sample.Bytes(20, m+9)
 			pair(t, "above with zeros", kind, bpp, line, wantDone(kind, bpp, line, full), above)
 		}
 	})
@@ -130,10 +132,10 @@ func TestAboveIsShorter(t *testing.T) {
 func TestAboveIsLonger(t *testing.T) {
 	filters(func(kind, bpp int) {
 		for n := range 20 {
-			line, above := mixed(n, n), mixed(60, n+5)
+			line, above := sample.Bytes(n, n), sample.Bytes(60, n+5)
 			want := wantDone(kind, bpp, line, above[:n])
 			pair(t, "above is longer", kind, bpp, line, want, above)
-			other := append(slices.Clone(above[:n]), mixed(40, n+6)...)
+			other := append(slices.Clone(above[:n]), sample.Bytes(40, n+6)...)
 			pair(t, "above goes on otherwise", kind, bpp, line, want, other)
 			short := append(slices.Clone(above[:n/2]), make([]byte, n)...)
 			pair(t, "spare room", kind, bpp, line, wantDone(kind, bpp, line, short), above[:n/2])
@@ -144,7 +146,7 @@ func TestAboveIsLonger(t *testing.T) {
 // 10.1: a line that is its own line above, and one that overlaps it.
 func TestOverlap(t *testing.T) {
 	filters(func(kind, bpp int) {
-		room := mixed(60, 4)
+		room := sample.Bytes(60, 4)
 		hold(t, kind, bpp, room, room)
 		hold(t, kind, bpp, room[:40], room[20:])
 		hold(t, kind, bpp, room[20:], room[:40])

@@ -12,6 +12,7 @@ import (
 
 	"versal/api"
 	"versal/rows"
+	"versal/sample"
 )
 
 // form is a kind of image that the library reads: PNG's type and depth, and how
@@ -99,7 +100,7 @@ func TestLibraryReads(t *testing.T) {
 	for _, f := range forms() {
 		for _, size := range [][2]int{{1, 1}, {2, 3}, {5, 5}, {8, 8}, {9, 17}, {31, 4}, {40, 33}} {
 			w, h := size[0], size[1]
-			pixels := mixed(w*h*f.bpp, w+h)
+			pixels := sample.Bytes(w*h*f.bpp, w+h)
 			whole := []rows.Pass{{DX: 1, DY: 1, W: w, H: h}}
 			want := shown(t, file(t, f, w, h, 0, filtered(t, whole, 0, w, f.bpp, pixels)))
 			for k := range 6 {

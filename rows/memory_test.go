@@ -7,6 +7,7 @@ import (
 
 	"versal/api"
 	"versal/rows"
+	"versal/sample"
 )
 
 // calls answers both calls, by their names.
@@ -30,7 +31,7 @@ func TestUnchanged(t *testing.T) {
 			for bpp := 0; bpp <= 9; bpp++ {
 				for _, n := range []int{0, 1, 7, 30} {
 					for _, m := range []int{0, 1, 6, 30, 40} {
-						line, above := mixed(90, n+1), mixed(90, m+2)
+						line, above := sample.Bytes(90, n+1), sample.Bytes(90, m+2)
 						wasLine, wasAbove := slices.Clone(line), slices.Clone(above)
 						call(kind, bpp, line[9:9+n], above[9:9+m])
 						call(kind, bpp, line[9:9+n:9+n], above[9:9+m:9+m])
@@ -51,7 +52,7 @@ func TestNewMemory(t *testing.T) {
 	for name, call := range calls() {
 		filters(func(kind, bpp int) {
 			for _, n := range []int{0, 1, 7, 8, 30} {
-				line, above := mixed(n, n+1), mixed(n, n+2)
+				line, above := sample.Bytes(n, n+1), sample.Bytes(n, n+2)
 				wasLine, wasAbove := slices.Clone(line), slices.Clone(above)
 				one, _ := call(kind, bpp, line, above)
 				other, e := call(kind, bpp, line, above)
@@ -90,7 +91,7 @@ func TestNewPasses(t *testing.T) {
 
 // R2: nil and an empty line are the same, each of both by itself.
 func TestNilAndEmpty(t *testing.T) {
-	line := mixed(20, 1)
+	line := sample.Bytes(20, 1)
 	for name, call := range calls() {
 		filters(func(kind, bpp int) {
 			one, e := call(kind, bpp, line, nil)
@@ -105,7 +106,7 @@ func TestNilAndEmpty(t *testing.T) {
 // R4: a call knows nothing of those ahead of it, and several goroutines may ask
 // at a time.
 func TestApart(t *testing.T) {
-	line, above := mixed(50, 1), mixed(50, 2)
+	line, above := sample.Bytes(50, 1), sample.Bytes(50, 2)
 	filters(func(kind, bpp int) {
 		hold(t, kind, bpp, line, above)
 		rows.Undo(kind, 9, line, above)

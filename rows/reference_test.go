@@ -6,6 +6,7 @@ import (
 
 	"versal/api"
 	"versal/rows"
+	"versal/sample"
 )
 
 // floorHalf answers the greatest whole number that is not above n / 2.
@@ -117,21 +118,10 @@ func pair(t *testing.T, what string, kind, bpp int, was, filtered, above []byte)
 	}
 }
 
-// mixed answers n bytes that are unlike one another, the same ones each time.
-func mixed(n, seed int) []byte {
-	b := make([]byte, n)
-	state := uint64(seed)*2654435761 + 1
-	for k := range b {
-		state = state*6364136223846793005 + 1442695040888963407
-		b[k] = byte(state >> 56)
-	}
-	return b
-}
-
 // steep answers n bytes out of the few at which sums pass 0, 127 and 255.
 func steep(n, seed int) []byte {
 	ends := []byte{0, 1, 2, 126, 127, 128, 129, 253, 254, 255}
-	b := mixed(n, seed)
+	b := sample.Bytes(n, seed)
 	for k := range b {
 		b[k] = ends[int(b[k])%len(ends)]
 	}

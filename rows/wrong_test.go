@@ -6,14 +6,15 @@ import (
 
 	"versal/api"
 	"versal/rows"
+	"versal/sample"
 )
 
 // refused holds that neither call takes this kind with this bpp, and that
 // nothing stands beside the error.
 func refused(t *testing.T, kind, bpp int) {
 	t.Helper()
-	for _, line := range [][]byte{nil, {}, {1}, mixed(30, 1)} {
-		for _, above := range [][]byte{nil, {2}, mixed(30, 2)} {
+	for _, line := range [][]byte{nil, {}, {1}, sample.Bytes(30, 1)} {
+		for _, above := range [][]byte{nil, {2}, sample.Bytes(30, 2)} {
 			done, e := rows.Do(kind, bpp, line, above)
 			if e != api.ErrArg || len(done) != 0 {
 				t.Errorf("10.1: Do(%d, %d): %v %d", kind, bpp, done, e)
@@ -67,7 +68,7 @@ func TestWhichAreTaken(t *testing.T) {
 	for kind := -20; kind <= 20; kind++ {
 		for bpp := -20; bpp <= 20; bpp++ {
 			if kind >= 0 && kind <= 4 && bpp >= 1 && bpp <= 8 {
-				hold(t, kind, bpp, mixed(30, kind), mixed(30, bpp))
+				hold(t, kind, bpp, sample.Bytes(30, kind), sample.Bytes(30, bpp))
 			} else {
 				refused(t, kind, bpp)
 			}

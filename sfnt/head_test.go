@@ -6,6 +6,7 @@ import (
 	"testing"
 
 	"versal/api"
+	"versal/sample"
 	"versal/sfnt"
 )
 
@@ -38,7 +39,7 @@ func TestNoTables(t *testing.T) {
 	for _, mark := range []string{plain, otto, truth} {
 		hold(t, "twelve bytes", file(mark, 0), nil, api.OK)
 		for n := range 40 {
-			hold(t, strconv.Itoa(n)+" behind", file(mark, 0, mixed(n, n)), nil, api.OK)
+			hold(t, strconv.Itoa(n)+" behind", file(mark, 0, sample.Bytes(n, n)), nil, api.OK)
 		}
 		hold(t, "records that are not told of", file(mark, 0, lines(3)), nil, api.OK)
 	}

@@ -9,6 +9,7 @@ import (
 	"testing"
 
 	"versal/api"
+	"versal/sample"
 	"versal/sfnt"
 )
 
@@ -78,12 +79,12 @@ func TestLaidBytes(t *testing.T) {
 // lies between them, nor behind.
 func TestLayLengths(t *testing.T) {
 	for n := range 70 {
-		holdLay(t, strconv.Itoa(n)+" bytes", []string{"abcd"}, [][]byte{mixed(n, n)})
+		holdLay(t, strconv.Itoa(n)+" bytes", []string{"abcd"}, [][]byte{sample.Bytes(n, n)})
 	}
 	for a := range 9 {
 		for b := range 9 {
 			for c := range 9 {
-				tables := [][]byte{mixed(a, 1), mixed(b, 2), mixed(c, 3)}
+				tables := [][]byte{sample.Bytes(a, 1), sample.Bytes(b, 2), sample.Bytes(c, 3)}
 				holdLay(t, "three", []string{"c   ", "a   ", "b   "}, tables)
 			}
 		}
@@ -96,7 +97,7 @@ func TestLayCounts(t *testing.T) {
 		tables := make([][]byte, count)
 		holdLay(t, strconv.Itoa(count)+" without bytes", manyTags(count), tables)
 		for k := range tables {
-			tables[k] = mixed((k*k+count)%37, k)
+			tables[k] = sample.Bytes((k*k+count)%37, k)
 		}
 		holdLay(t, strconv.Itoa(count)+" tables", manyTags(count), tables)
 	}
@@ -104,7 +105,7 @@ func TestLayCounts(t *testing.T) {
 
 // 14.2: lengths and offsets of which each byte counts.
 func TestLayMany(t *testing.T) {
-	tables := [][]byte{mixed(0x0102, 1), make([]byte, 0x01020304), {1, 2, 3}, mixed(0x010203, 2), {}, {9}}
+	tables := [][]byte{sample.Bytes(0x0102, 1), make([]byte, 0x01020304), {1, 2, 3}, sample.Bytes(0x010203, 2), {}, {9}}
 	tables[1][0], tables[1][0x01020303] = 7, 8
 	holdLay(t, "many bytes", manyTags(6), tables)
 }
@@ -114,7 +115,7 @@ func TestLayAnyTags(t *testing.T) {
 	tags := []string{"\xff\xfe\xfd\xfc", "\x00\x00\x00\x00", "é12", "    ", "abcd", "ABCD", "abc ", "\xc3\xa9\xc3\xa9", plain, otto, truth}
 	tables := make([][]byte, len(tags))
 	for k := range tables {
-		tables[k] = mixed(k%5, k)
+		tables[k] = sample.Bytes(k%5, k)
 	}
 	holdLay(t, "any tags", tags, tables)
 	slices.Reverse(tags)
@@ -197,11 +198,11 @@ func TestLayTwice(t *testing.T) {
 // 14.1, 14.2: fonts of any tables, laid, opened and laid again.
 func TestLaidAgain(t *testing.T) {
 	for seed := range 2000 {
-		pick := source(seed)
+		pick := sample.Source(seed)
 		tags := manyTags(pick(12))
 		var tables [][]byte
 		for k := range tags {
-			tables = append(tables, mixed(pick(50), seed+k))
+			tables = append(tables, sample.Bytes(pick(50), seed+k))
 		}
 		holdLay(t, "any", tags, tables)
 		b, _ := sfnt.Lay(tags, tables)

@@ -6,6 +6,7 @@ import (
 	"testing"
 
 	"versal/api"
+	"versal/sample"
 	"versal/sfnt"
 )
 
@@ -27,7 +28,7 @@ func spoil(b []byte) {
 // also beside an error.
 func TestOpenChangesNothing(t *testing.T) {
 	for _, b := range [][]byte{nil, layered(), file("nope", 0), file(plain, 65), file(plain, 2, lines(1), lines(1)), file(plain, 1, line("abcd", 99, 9))} {
-		whole := slices.Concat(mixed(9, 1), b, mixed(90, 2))
+		whole := slices.Concat(sample.Bytes(9, 1), b, sample.Bytes(90, 2))
 		before := bytes.Clone(whole)
 		for _, n := range []int{len(b), max(0, len(b)-1), len(b) / 2, len(b) + 1} {
 			for _, part := range [][]byte{whole[9 : 9+n], whole[9 : 9+n : 9+n]} {
@@ -46,7 +47,7 @@ func TestOpenChangesNothing(t *testing.T) {
 // R2: bytes that are turned behind Open change no answer.
 func TestOpenKeepsNothing(t *testing.T) {
 	want, _ := expected(layered())
-	whole := slices.Concat(mixed(9, 1), layered(), mixed(9, 2))
+	whole := slices.Concat(sample.Bytes(9, 1), layered(), sample.Bytes(9, 2))
 	b := whole[9 : 9+len(layered())]
 	f, e := sfnt.Open(b)
 	if e != api.OK {
@@ -112,7 +113,7 @@ func TestTagsIsNewMemory(t *testing.T) {
 // also where it refuses them.
 func TestLayChangesNothing(t *testing.T) {
 	for _, count := range []int{0, 1, 2, 5, 64} {
-		bodies := mixed(64*8, 3)
+		bodies := sample.Bytes(64*8, 3)
 		tags, tables := manyTags(66), make([][]byte, 66)
 		for k := range 64 {
 			tables[k] = bodies[8*k : 8*k+k%7]
@@ -140,7 +141,7 @@ func TestLayIsNewMemory(t *testing.T) {
 		tags := manyTags(count)
 		var tables [][]byte
 		for k := range count {
-			tables = append(tables, mixed(k%5+1, k))
+			tables = append(tables, sample.Bytes(k%5+1, k))
 		}
 		want := laid(tags, tables)
 		one, _ := sfnt.Lay(tags, tables)

@@ -7,6 +7,7 @@ import (
 	"testing"
 
 	"versal/api"
+	"versal/sample"
 	"versal/sfnt"
 )
 
@@ -36,7 +37,7 @@ func TestOffsetsAndLengths(t *testing.T) {
 		end := 28 + room
 		for offset := range end + 4 {
 			for length := range end + 4 {
-				b := file(plain, 1, line("abcd", offset, length), mixed(room, room))
+				b := file(plain, 1, line("abcd", offset, length), sample.Bytes(room, room))
 				what := strconv.Itoa(length) + " from " + strconv.Itoa(offset) + " on"
 				if offset+length > end {
 					wrong(t, what, b, api.ErrShort)
@@ -212,7 +213,7 @@ func TestTwoErrors(t *testing.T) {
 // 14.1: sums are not asked.
 func TestSumsAreNotAsked(t *testing.T) {
 	for seed := range 200 {
-		sum := mixed(4, seed)
+		sum := sample.Bytes(4, seed)
 		b := file(plain, 1, line("abcd", 28, 5), []byte("hello"))
 		copy(b[16:], sum)
 		hold(t, "a sum", b, []table{{"abcd", "hello"}}, api.OK)

@@ -17,26 +17,6 @@ const (
 	truth = "true"
 )
 
-// source answers numbers from 0 to n - 1 that are unlike one another, the same
-// ones each time.
-func source(seed int) func(n int) int {
-	state := uint64(seed)*2654435761 + 1
-	return func(n int) int {
-		state = state*6364136223846793005 + 1442695040888963407
-		return int(state >> 33 % uint64(n))
-	}
-}
-
-// mixed answers n bytes that are unlike one another.
-func mixed(n, seed int) []byte {
-	b := make([]byte, n)
-	pick := source(seed)
-	for k := range b {
-		b[k] = byte(pick(256))
-	}
-	return b
-}
-
 // file answers what begins with this mark and so many tables, and goes on with
 // these bytes.
 func file(mark string, count int, behind ...[]byte) []byte {

@@ -6,11 +6,12 @@ import (
 	"testing"
 
 	"versal/api"
+	"versal/sample"
 )
 
 // some answers a font of up to eight tables, most of them where they may be.
 func some(seed int) []byte {
-	pick := source(seed)
+	pick := sample.Source(seed)
 	count, room := pick(9), pick(60)
 	end := 12 + 16*count + room
 	var list []byte
@@ -20,7 +21,7 @@ func some(seed int) []byte {
 		list = append(list, line(tagOf(pick(90)), offset, length)...)
 	}
 	mark := []string{plain, otto, truth}[pick(3)]
-	return file(mark, count, list, mixed(room, seed))
+	return file(mark, count, list, sample.Bytes(room, seed))
 }
 
 // turn changes one thing of a font.
@@ -52,7 +53,7 @@ func TestTurned(t *testing.T) {
 	seen := make(map[api.Errno]int)
 	for seed := range 40000 {
 		b := some(seed)
-		pick := source(seed + 1<<20)
+		pick := sample.Source(seed + 1<<20)
 		for range pick(3) {
 			if len(b) >= 12 {
 				b = turn(b, pick)
@@ -70,7 +71,7 @@ func TestTurned(t *testing.T) {
 // 14.1, R1: any bytes at all, alone and behind a head.
 func TestAnyBytes(t *testing.T) {
 	for seed := range 10000 {
-		b := mixed(source(seed)(90), seed)
+		b := sample.Bytes(sample.Source(seed)(90), seed)
 		holdExpected(t, "any bytes", b)
 		for _, mark := range []string{plain, otto, truth} {
 			holdExpected(t, "any bytes behind a mark", append([]byte(mark), b...))

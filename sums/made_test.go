@@ -6,6 +6,7 @@ import (
 	"sync"
 	"testing"
 
+	"versal/sample"
 	"versal/sums"
 )
 
@@ -21,7 +22,7 @@ func runs() map[string]func(t *testing.T) {
 		"none":     func(t *testing.T) { runFirst(t, nil) },
 		"empty":    func(t *testing.T) { runFirst(t, []byte{}) },
 		"byte":     func(t *testing.T) { runFirst(t, []byte{0}) },
-		"bytes":    func(t *testing.T) { runFirst(t, mixed(5000, 3)) },
+		"bytes":    func(t *testing.T) { runFirst(t, sample.Bytes(5000, 3)) },
 		"together": runTogether,
 		"among":    runAmong,
 	}
@@ -80,7 +81,7 @@ func runNothing(t *testing.T) {
 // 6.1: Adler looks nothing up.
 func runAdler(t *testing.T) {
 	for _, n := range []int{0, 1, 9000, 100000} {
-		sums.Adler(mixed(n, n))
+		sums.Adler(sample.Bytes(n, n))
 		holdMade(t, 0, "behind an Adler")
 	}
 }
@@ -93,7 +94,7 @@ func runFirst(t *testing.T, b []byte) {
 	}
 	holdMade(t, 1, "behind the first Crc")
 	for k := range 200 {
-		hold(t, mixed(k, k))
+		hold(t, sample.Bytes(k, k))
 		holdMade(t, 1, "behind many")
 	}
 }
@@ -120,7 +121,7 @@ func runTogether(t *testing.T) {
 	var list [hands][]byte
 	var want, got, seen [hands]int
 	for k := range list {
-		list[k] = mixed(1+k, k)
+		list[k] = sample.Bytes(1+k, k)
 		want[k] = wantCrc(list[k])
 	}
 	holdMade(t, 0, "ahead of the first Crc")
@@ -140,7 +141,7 @@ func runTogether(t *testing.T) {
 func runAmong(t *testing.T) {
 	const hands, steps = 32, 200
 	var back, wrong [hands]int
-	b := mixed(50, 23)
+	b := sample.Bytes(50, 23)
 	adler, crc := wantAdler(b), wantCrc(b)
 	start(hands, func(k int) {
 		last := 0
@@ -167,7 +168,7 @@ func runAmong(t *testing.T) {
 // 6.1: several goroutines ask one list of bytes at a time.
 func TestTogether(t *testing.T) {
 	const hands = 16
-	b := mixed(20000, 29)
+	b := sample.Bytes(20000, 29)
 	was := string(b)
 	adler, crc := wantAdler(b), wantCrc(b)
 	var wrong [hands]int

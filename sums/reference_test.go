@@ -37,14 +37,3 @@ func hold(t *testing.T, b []byte) {
 		t.Fatalf("6.1: Crc of %d bytes: %08x, not %08x", len(b), got, want)
 	}
 }
-
-// mixed answers n bytes that are unlike one another, the same ones each time.
-func mixed(n, seed int) []byte {
-	b := make([]byte, n)
-	state := uint64(seed)*2654435761 + 1
-	for k := range b {
-		state = state*6364136223846793005 + 1442695040888963407
-		b[k] = byte(state >> 56)
-	}
-	return b
-}

@@ -7,6 +7,7 @@ import (
 	"strings"
 	"testing"
 
+	"versal/sample"
 	"versal/sums"
 )
 
@@ -83,7 +84,7 @@ func TestEachTwoBytes(t *testing.T) {
 // by what hangs on the place alone.
 func TestTurnedBits(t *testing.T) {
 	const size = 40
-	one, other := mixed(size, 1), mixed(size, 2)
+	one, other := sample.Bytes(size, 1), sample.Bytes(size, 2)
 	adler, crc := map[int]int{}, map[int]int{}
 	for k := range 8 * size {
 		a, b := bytes.Clone(one), bytes.Clone(other)
@@ -110,7 +111,7 @@ func TestTurnedBits(t *testing.T) {
 
 // 6.1: bytes that stand in another order have other sums.
 func TestOrder(t *testing.T) {
-	b := mixed(64, 5)
+	b := sample.Bytes(64, 5)
 	for k := 1; k < len(b); k++ {
 		if b[k] == b[k-1] {
 			continue
@@ -126,7 +127,7 @@ func TestOrder(t *testing.T) {
 
 // 6.1: bytes of each length up to one that has gone round.
 func TestEachLength(t *testing.T) {
-	b := mixed(700, 7)
+	b := sample.Bytes(700, 7)
 	for n := range len(b) + 1 {
 		hold(t, b[:n])
 		hold(t, b[n:])
@@ -140,7 +141,7 @@ func TestLong(t *testing.T) {
 	kinds := map[string][]byte{
 		"zeros":    make([]byte, most+1),
 		"greatest": bytes.Repeat([]byte{255}, most+1),
-		"mixed":    mixed(most+1, 11),
+		"mixed":    sample.Bytes(most+1, 11),
 	}
 	for name, all := range kinds {
 		for _, n := range []int{255, 257, 258, 3854, 5552, 5553, 1 << 12, 1 << 15, 65521, 1 << 16, 1 << 17, most} {
@@ -199,7 +200,7 @@ func TestVeryLong(t *testing.T) {
 // R2: what is handed in is as it was, ahead of it, in it and in its spare room.
 func TestUnchanged(t *testing.T) {
 	for _, n := range []int{0, 1, 7, 300, 70000} {
-		room := mixed(n+64, 13)
+		room := sample.Bytes(n+64, 13)
 		was := bytes.Clone(room)
 		b := room[16 : 16+n : 16+n+32]
 		sums.Adler(b)
@@ -216,10 +217,10 @@ func TestUnchanged(t *testing.T) {
 // R2, R4: nothing is kept of what was handed in, and nothing but the bytes
 // themselves is told: not where they lie, nor what lies about them.
 func TestBytesAlone(t *testing.T) {
-	want := mixed(333, 17)
+	want := sample.Bytes(333, 17)
 	adler, crc := wantAdler(want), wantCrc(want)
 	for k := range 40 {
-		room := mixed(500, 100+k)
+		room := sample.Bytes(500, 100+k)
 		copy(room[k:], want)
 		b := room[k : k+len(want)]
 		if sums.Adler(b) != adler || sums.Crc(b) != crc {

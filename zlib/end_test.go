@@ -8,6 +8,7 @@ import (
 
 	"versal/api"
 	"versal/flate"
+	"versal/sample"
 	"versal/zlib"
 )
 
@@ -19,7 +20,7 @@ func bodies() [][2][]byte {
 		{{0x00, 0x01, 0x00, 0xfe, 0xff, 'x', 0x03, 0x00}, []byte("x")},
 	}
 	for _, n := range []int{0, 1, 2, 50, 300} {
-		text := mixed(n, n)
+		text := sample.Bytes(n, n)
 		all = append(all, [2][]byte{flate.Stored(text), text})
 	}
 	return all
@@ -48,7 +49,7 @@ func TestHowManyAreLeft(t *testing.T) {
 		for n := 1; n <= 9; n++ {
 			what := strconv.Itoa(n) + " more"
 			wrong(t, what, append(slices.Clone(b), make([]byte, n)...), api.ErrForm)
-			wrong(t, what+", unlike one another", append(slices.Clone(b), mixed(n, n)...), api.ErrForm)
+			wrong(t, what+", unlike one another", append(slices.Clone(b), sample.Bytes(n, n)...), api.ErrForm)
 		}
 		for x := range 256 {
 			wrong(t, "one more", append(slices.Clone(b), byte(x)), api.ErrForm)
@@ -88,7 +89,7 @@ func TestAdlerTurned(t *testing.T) {
 
 // 9.1: each bit of the text turned, with the Adler as it was.
 func TestTextTurned(t *testing.T) {
-	text := mixed(120, 7)
+	text := sample.Bytes(120, 7)
 	b := zlib.Lay(text)
 	for k := range text {
 		for bit := range 8 {

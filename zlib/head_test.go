@@ -8,6 +8,7 @@ import (
 	"testing"
 
 	"versal/api"
+	"versal/sample"
 )
 
 // refusals answers each reason for which a head is not taken.
@@ -102,7 +103,7 @@ func TestDictionary(t *testing.T) {
 // 9.1: the window is told and not held against the distances: no error is named
 // for one that is beyond it.
 func TestWindowIsNotHeld(t *testing.T) {
-	text := append(mixed(1000, 5), mixed(1000, 5)...)
+	text := append(sample.Bytes(1000, 5), sample.Bytes(1000, 5)...)
 	b := deflated(t, 9, text)
 	if len(b) > 1200 {
 		t.Fatal("nothing was copied from afar")

@@ -6,6 +6,7 @@ import (
 	"strconv"
 	"testing"
 
+	"versal/sample"
 	"versal/zlib"
 )
 
@@ -25,7 +26,7 @@ func TestLayBytes(t *testing.T) {
 // 9.1: its blocks are of 65535 bytes each but the last one.
 func TestLayBlocks(t *testing.T) {
 	for _, n := range []int{1, 2, 255, 256, 65534, 65535, 65536, 65537, 131069, 131070, 131071, 200000} {
-		text := mixed(n, n)
+		text := sample.Bytes(n, n)
 		want := []byte{0x78, 0x01}
 		rest := text
 		for len(rest) > 65535 {
@@ -45,7 +46,7 @@ func TestLayBlocks(t *testing.T) {
 // 9.1: what was laid is opened again, ours and the library's way.
 func TestLayAgain(t *testing.T) {
 	for _, n := range []int{0, 1, 2, 3, 100, 65534, 65535, 65536, 65537, 131070, 131071, 300000} {
-		text := mixed(n, n+1)
+		text := sample.Bytes(n, n+1)
 		b := zlib.Lay(text)
 		fine(t, strconv.Itoa(n)+" laid", b, string(text))
 		if out, err := library(b); err != nil || !bytes.Equal(out, text) {

@@ -9,6 +9,7 @@ import (
 	"testing"
 
 	"versal/api"
+	"versal/sample"
 )
 
 // library answers what the standard library finds in a frame.
@@ -41,15 +42,15 @@ func deflated(t *testing.T, level int, pieces ...[]byte) []byte {
 
 // samples answers texts of many kinds.
 func samples() [][]byte {
-	pick := source(41)
+	pick := sample.Source(41)
 	var few []byte
 	for range 9000 {
 		few = append(few, byte('a'+min(pick(26), pick(26), pick(26))))
 	}
-	far := mixed(33000, 6)
+	far := sample.Bytes(33000, 6)
 	return [][]byte{
 		nil, []byte("a"), []byte("abc"), []byte(strings.Repeat("a", 1000)), make([]byte, 100000), few,
-		mixed(70000, 4), append(far, far...), []byte(strings.Repeat("abcdefgh", 9000)),
+		sample.Bytes(70000, 4), append(far, far...), []byte(strings.Repeat("abcdefgh", 9000)),
 	}
 }
 

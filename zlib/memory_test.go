@@ -6,6 +6,7 @@ import (
 	"testing"
 
 	"versal/api"
+	"versal/sample"
 	"versal/zlib"
 )
 
@@ -19,7 +20,7 @@ func frameOfEachEnd() map[api.Errno][][]byte {
 		api.OK:       {abc, zlib.Lay(nil), zlib.Lay([]byte("xyz"))},
 		api.ErrForm:  {append(slices.Clone(abc), 0), {0x78, 0x02, 3, 0, 0, 0, 0, 1}, {0x78, 0x01, 7, 0}},
 		api.ErrShort: {nil, {0x78}, abc[:5], abc[:len(abc)-1]},
-		api.ErrBig:   {zlib.Lay([]byte("four")), zlib.Lay(mixed(70000, 1))},
+		api.ErrBig:   {zlib.Lay([]byte("four")), zlib.Lay(sample.Bytes(70000, 1))},
 		api.ErrMark:  {turned},
 	}
 }
@@ -29,7 +30,7 @@ func frameOfEachEnd() map[api.Errno][][]byte {
 func TestUnchanged(t *testing.T) {
 	check := func(what string, b []byte, call func(b []byte)) {
 		t.Helper()
-		room := slices.Concat(mixed(9, 1), b, mixed(70, 2))
+		room := slices.Concat(sample.Bytes(9, 1), b, sample.Bytes(70, 2))
 		was := slices.Clone(room)
 		call(room[9 : 9+len(b)])
 		if !bytes.Equal(room, was) {
@@ -50,7 +51,7 @@ func TestUnchanged(t *testing.T) {
 		}
 	}
 	for _, n := range []int{0, 1, 100, 65535, 65536, 140000} {
-		check("Lay", mixed(n, n), func(b []byte) { zlib.Lay(b) })
+		check("Lay", sample.Bytes(n, n), func(b []byte) { zlib.Lay(b) })
 	}
 	for level, text := range samples() {
 		b := deflated(t, level, text)
@@ -85,7 +86,7 @@ func TestNewMemory(t *testing.T) {
 		}
 	}
 	for _, n := range []int{0, 1, 100, 65535, 65536, 140000} {
-		text := mixed(n, n)
+		text := sample.Bytes(n, n)
 		was := slices.Clone(text)
 		one, other := zlib.Lay(text), zlib.Lay(text)
 		keep := slices.Clone(other)

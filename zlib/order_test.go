@@ -7,6 +7,7 @@ import (
 
 	"versal/api"
 	"versal/flate"
+	"versal/sample"
 	"versal/zlib"
 )
 
@@ -61,7 +62,7 @@ func TestCutOff(t *testing.T) {
 			wrong(t, "cut off at "+strconv.Itoa(n), b[:n], api.ErrShort)
 		}
 	}
-	b := zlib.Lay(mixed(66000, 3))
+	b := zlib.Lay(sample.Bytes(66000, 3))
 	for _, n := range []int{0, 1, 2, 3, 6, 7, 65541, 65542, 65546, 65547, len(b) - 5, len(b) - 4, len(b) - 1} {
 		wrong(t, "two blocks cut off at "+strconv.Itoa(n), b[:n], api.ErrShort)
 	}
@@ -118,7 +119,7 @@ func TestTurned(t *testing.T) {
 	}
 	seen := make(map[api.Errno]int)
 	for seed := range 12000 {
-		pick := source(seed)
+		pick := sample.Source(seed)
 		b := slices.Clone(frames[pick(len(frames))])
 		for range pick(3) {
 			b[pick(len(b))] ^= 1 << pick(8)
@@ -127,7 +128,7 @@ func TestTurned(t *testing.T) {
 		case 0:
 			b = b[:pick(len(b)+1)]
 		case 1:
-			b = append(b, mixed(1+pick(3), seed)...)
+			b = append(b, sample.Bytes(1+pick(3), seed)...)
 		case 2:
 			b[len(b)-1-pick(4)] ^= byte(1 + pick(255))
 		}
@@ -147,7 +148,7 @@ func TestTurned(t *testing.T) {
 // 9.1, R1: any bytes at all, alone and behind a head.
 func TestAnyBytes(t *testing.T) {
 	for seed := range 4000 {
-		b := mixed(source(seed)(60), seed)
+		b := sample.Bytes(sample.Source(seed)(60), seed)
 		holdExpected(t, "any bytes", b, 1<<12)
 		holdExpected(t, "any bytes behind a head", append([]byte{0x78, 0x9c}, b...), 1<<12)
 	}

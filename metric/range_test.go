@@ -19,7 +19,7 @@ func kinds(glyphs int) []metric.Metric {
 // entries answers a table loca of the kind that a Metric tells.
 func entries(m metric.Metric, ends ...int) []byte {
 	if m.Long {
-		return long(ends...)
+		return sample.Longs(ends...)
 	}
 	return short(ends...)
 }
@@ -51,7 +51,7 @@ func TestWhatEntriesTell(t *testing.T) {
 	}
 	holdRange(t, "long entries", f, metric.Metric{Glyphs: 3, Long: true}, 0, place{from: 0x10002, to: 0x30004})
 	holdRange(t, "long entries", f, metric.Metric{Glyphs: 3, Long: true}, 1, place{e: api.ErrShort})
-	f = font(t, tables{"loca": long(1, 3, 3, 8), "glyf": make([]byte, 9)})
+	f = font(t, tables{"loca": sample.Longs(1, 3, 3, 8), "glyf": make([]byte, 9)})
 	for k, want := range []place{{from: 1, to: 3}, {from: 3, to: 3}, {from: 3, to: 8}} {
 		holdRange(t, "odd ones", f, metric.Metric{Glyphs: 3, Long: true}, k, want)
 	}
@@ -252,7 +252,7 @@ func TestFarEntries(t *testing.T) {
 	for _, a := range far {
 		for _, b := range append([]int{0, 8}, far...) {
 			for _, ends := range [][]int{{a, b}, {b, a}} {
-				f := font(t, tables{"loca": long(ends...), "glyf": make([]byte, 8)})
+				f := font(t, tables{"loca": sample.Longs(ends...), "glyf": make([]byte, 8)})
 				holdRange(t, "far entries", f, m, 0, place{e: api.ErrForm})
 			}
 		}

@@ -67,15 +67,6 @@ func short(ends ...int) []byte {
 	return b
 }
 
-// long answers a table loca of long entries.
-func long(ends ...int) []byte {
-	var b []byte
-	for _, n := range ends {
-		b = binary.BigEndian.AppendUint32(b, uint32(n))
-	}
-	return b
-}
-
 // place is what Range answers.
 type place struct {
 	from, to int

@@ -34,6 +34,36 @@ func Bytes(n, seed int) []byte {
 	return b
 }
 
+// Words answers numbers of two bytes each, the higher one first.
+func Words(numbers ...int) []byte {
+	var b []byte
+	for _, n := range numbers {
+		b = append(b, byte(n>>8), byte(n))
+	}
+	return b
+}
+
+// Longs answers numbers of four bytes each, the highest first.
+func Longs(numbers ...int) []byte {
+	var b []byte
+	for _, n := range numbers {
+		b = append(b, Words(n>>16, n)...)
+	}
+	return b
+}
+
+// Glyphs answers the tables of a font of these glyphs' bytes, one behind the
+// other, that tell where each of them is: loca's entries are long.
+func Glyphs(glyphs ...[]byte) map[string][]byte {
+	var all []byte
+	ends := []int{0}
+	for _, b := range glyphs {
+		all = append(all, b...)
+		ends = append(ends, len(all))
+	}
+	return map[string][]byte{"glyf": all, "loca": Longs(ends...)}
+}
+
 // File answers the bytes of a font of these tables, in the order of their
 // tags; nil, if there is no such font.
 func File(tables map[string][]byte) []byte {

@@ -47,6 +47,34 @@ func TestBytes(t *testing.T) {
 	}
 }
 
+// Numbers stand one behind the other, the highest byte first, and only as many
+// of their bytes as there is room for.
+func TestNumbers(t *testing.T) {
+	if b := sample.Words(1, 0x1234, -2, 0x56789); !bytes.Equal(b, []byte{0, 1, 0x12, 0x34, 0xff, 0xfe, 0x67, 0x89}) {
+		t.Errorf("words %x", b)
+	}
+	if b := sample.Longs(1, 0x12345678, -2, 0x56789abcde); !bytes.Equal(b, []byte{0, 0, 0, 1, 0x12, 0x34, 0x56, 0x78, 0xff, 0xff, 0xff, 0xfe, 0x78, 0x9a, 0xbc, 0xde}) {
+		t.Errorf("longs %x", b)
+	}
+	if len(sample.Words()) != 0 || len(sample.Longs()) != 0 {
+		t.Error("bytes of no numbers")
+	}
+}
+
+// Each glyph's bytes are where the entries tell.
+func TestGlyphs(t *testing.T) {
+	l := sample.Glyphs([]byte{1, 2}, nil, make([]byte, 70000), []byte{3})
+	if !bytes.Equal(l["loca"], []byte{0, 0, 0, 0, 0, 0, 0, 2, 0, 0, 0, 2, 0, 1, 0x11, 0x72, 0, 1, 0x11, 0x73}) {
+		t.Errorf("loca %x", l["loca"])
+	}
+	if !bytes.Equal(l["glyf"], slices.Concat([]byte{1, 2}, make([]byte, 70000), []byte{3})) || len(l) != 2 {
+		t.Error("glyphs are elsewhere")
+	}
+	if l := sample.Glyphs(); len(l["glyf"]) != 0 || !bytes.Equal(l["loca"], make([]byte, 4)) {
+		t.Errorf("tables of no glyphs: %x", l)
+	}
+}
+
 // A font has the tables that it is made of, in the order of their tags.
 func TestFont(t *testing.T) {
 	tables := map[string][]byte{"zzzz": []byte("last"), "abcd": nil, "head": {1, 2, 3}}
